@@ -1,0 +1,1 @@
+"""Mumtrial: trials for machines that may say nothing."""
