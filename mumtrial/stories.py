@@ -3,6 +3,10 @@
 HUSH = ("hush",)
 
 
+def signs_in_order(M):
+    return [("ask", ask) for ask in M.asks()] + [("say", say) for say in M.says()] + [HUSH]
+
+
 def with_still(M, rooms):
     found = {}
     for room in rooms:
@@ -36,6 +40,16 @@ def face_of(M, story):
 
 def is_story(M, story):
     return len(face_of(M, story)) > 0
+
+
+# The faces behind the signs with which a story at this face goes on, in the order of signs; an empty one is left out.
+def steps_at(M, face):
+    steps = {}
+    for sign in signs_in_order(M):
+        behind = face_behind(M, face, sign)
+        if len(behind) > 0:
+            steps[sign] = behind
+    return steps
 
 
 def signs_at(M, face):

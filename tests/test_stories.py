@@ -5,6 +5,7 @@ import unittest
 
 from mumtrial.machines import Machine
 from mumtrial.stories import face_behind, face_of, first_face, foreseen, is_story, may_come
+from tests.plain import Plain
 from tests.samples import kiosk, names, random_parts
 
 HUSH = ("hush",)
@@ -166,34 +167,6 @@ class WhatMayCome(unittest.TestCase):
                 machine = Machine(list(asks), ["x"], ["p", "q"], turned)
                 self.assertEqual(foreseen(machine, ("p", "q")), [ask for ask in asks if ask != "d"])
                 self.assertEqual(foreseen(machine, ("p",)), ["a"])
-
-
-class Plain:
-    """The same by sets over the bare lists, each word of the document taken one by one."""
-
-    def __init__(self, asks, says, rooms, doors):
-        self.asks, self.says, self.rooms, self.doors = asks, says, rooms, doors
-
-    def face(self, found):
-        found = set(found)
-        for step in self.rooms:
-            found |= {goal for start, sign, goal in self.doors if sign == ("still",) and start in found}
-        return tuple(room for room in self.rooms if room in found)
-
-    def quiet(self, room):
-        return not [door for door in self.doors if door[0] == room and door[1][0] in ("say", "still")]
-
-    def behind(self, face, sign):
-        if sign == HUSH:
-            return tuple(room for room in face if self.quiet(room))
-        return self.face(goal for start, there, goal in self.doors if there == sign and start in face)
-
-    def coming(self, face):
-        says = [("say", w) for w in self.says if [d for d in self.doors if d[1] == ("say", w) and d[0] in face]]
-        return says + [HUSH] * any(self.quiet(room) for room in face)
-
-    def asks_at(self, face):
-        return [a for a in self.asks if [d for d in self.doors if d[1] == ("ask", a) and d[0] in face]]
 
 
 class AgainstThePlainWords(unittest.TestCase):

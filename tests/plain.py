@@ -1,0 +1,187 @@
+"""The document's words taken one by one, over bare lists, slow and without the program: what the tests hold it against."""
+
+HUSH = ("hush",)
+STILL = ("still",)
+
+
+class Plain:
+    """A machine by sets over its bare lists."""
+
+    def __init__(self, asks, says, rooms, doors):
+        self.asks, self.says, self.rooms, self.doors = asks, says, rooms, doors
+
+    def face(self, found):
+        found = set(found)
+        for step in self.rooms:
+            found |= {goal for start, sign, goal in self.doors if sign == ("still",) and start in found}
+        return tuple(room for room in self.rooms if room in found)
+
+    def quiet(self, room):
+        return not [door for door in self.doors if door[0] == room and door[1][0] in ("say", "still")]
+
+    def behind(self, face, sign):
+        if sign == HUSH:
+            return tuple(room for room in face if self.quiet(room))
+        return self.face(goal for start, there, goal in self.doors if there == sign and start in face)
+
+    def coming(self, face):
+        says = [("say", w) for w in self.says if [d for d in self.doors if d[1] == ("say", w) and d[0] in face]]
+        return says + [HUSH] * any(self.quiet(room) for room in face)
+
+    def asks_at(self, face):
+        return [a for a in self.asks if [d for d in self.doors if d[1] == ("ask", a) and d[0] in face]]
+
+    def first(self):
+        return self.face(self.rooms[:1])
+
+    def signs(self):
+        return [("ask", a) for a in self.asks] + [("say", w) for w in self.says] + [HUSH]
+
+    def story_key(self, story):
+        """By this key stories are sorted into their order."""
+        return (len(story), [self.signs().index(sign) for sign in story])
+
+    def stories(self, longest):
+        """Each story of at most so many signs with its face, in the order of stories."""
+        told = {(): self.first()}
+        level = dict(told)
+        for length in range(longest):
+            longer = {}
+            for story, face in level.items():
+                for sign in self.signs():
+                    behind = self.behind(face, sign)
+                    if behind:
+                        longer[story + (sign,)] = behind
+            told.update(longer)
+            level = longer
+        return told
+
+    def first_not_taken(self):
+        for room in self.rooms:
+            for ask in self.asks:
+                if ask not in self.asks_at(self.face([room])):
+                    return (room, ask)
+        return None
+
+    def is_walk(self, story, walk):
+        here = self.rooms[0]
+        signs = []
+        for start, sign, goal in walk:
+            silent = sign == HUSH and start == goal and start in self.rooms and self.quiet(start)
+            if start != here or not (silent or (start, sign, goal) in self.doors):
+                return False
+            here = goal
+            if sign != STILL:
+                signs.append(sign)
+        return signs == list(story)
+
+
+def least_fault(model, machine, longest):
+    """(story, sign) of the least fault whose story has at most so many signs, or None."""
+    for story, face in model.stories(longest).items():
+        mine = machine.first()
+        for sign in story:
+            mine = machine.behind(mine, sign)
+        for sign in machine.coming(mine):
+            if sign not in model.coming(face):
+                return (list(story), sign)
+    return None
+
+
+def is_paper(model, machine, paper):
+    if (machine.rooms[0], model.first()) not in paper:
+        return False
+    for room, face in paper:
+        if room not in machine.rooms or face == () or any(one not in model.rooms for one in face):
+            return False
+        places = [model.rooms.index(one) for one in face]
+        if places != sorted(set(places)):
+            return False
+        for start, sign, goal in machine.doors:
+            if start != room:
+                continue
+            if sign == STILL:
+                so = (goal, face) in paper
+            elif sign[0] == "say":
+                so = model.behind(face, sign) != () and (goal, model.behind(face, sign)) in paper
+            else:
+                so = model.behind(face, sign) == () or (goal, model.behind(face, sign)) in paper
+            if not so:
+                return False
+        if machine.quiet(room):
+            hushed = model.behind(face, HUSH)
+            if hushed == () or (room, hushed) not in paper:
+                return False
+    return True
+
+
+def parts(trial):
+    """(sign, part) of each part of a trial, in order."""
+    if trial[0] == "tell" and len(trial) == 4:
+        return [(("ask", trial[1]), trial[2])] + [(("say", w), part) for w, part in trial[3]]
+    if trial[0] == "wait" and len(trial) == 3:
+        return [(("say", w), part) for w, part in trial[1]] + [(HUSH, trial[2])]
+    return []
+
+
+def all_within(trial, way=(), story=()):
+    """(way, story, trial) of each trial within one, itself too, in no order that is promised."""
+    found = [(way, list(story), trial)]
+    for number, (sign, part) in enumerate(parts(trial)):
+        found += all_within(part, way + (number,), story + (sign,))
+    return found
+
+
+def wrong_way(asks, says, trial):
+    """The way with which a trial is refused, or None."""
+    within = all_within(trial)
+    if len(within) > 1000 or max(len(way) for way, story, one in within) >= 8:
+        return ()
+    wrong = []
+    for way, story, one in within:
+        words = [sign[1] for sign, part in parts(one) if sign[0] == "say"]
+        so = one in (("end",), ("blame",))
+        if one[0] == "tell" and len(one) == 4:
+            so = one[1] in asks and words == says
+        if one[0] == "wait" and len(one) == 3:
+            so = words == says
+        if not so:
+            wrong.append(way)
+    return min(wrong, default=None)
+
+
+def run_blames(machine, trial):
+    """Whether some run of the trial ends at blame, run by run."""
+    seen = set()
+    waiting = [((), trial, machine.rooms[0])]
+    while waiting:
+        way, here, room = waiting.pop()
+        if here == ("blame",):
+            return True
+        if here == ("end",) or (way, room) in seen:
+            continue
+        seen.add((way, room))
+        for start, sign, goal in machine.doors:
+            if start == room and sign == STILL:
+                waiting.append((way, here, goal))
+        for number, (sign, part) in enumerate(parts(here)):
+            if sign == HUSH and machine.quiet(room):
+                waiting.append((way + (number,), part, room))
+            waiting += [(way + (number,), part, goal) for start, other, goal in machine.doors
+                        if (start, other) == (room, sign)]
+    return False
+
+
+def run_end(machine, trial, walk):
+    """The word at which the run of this walk ends, or None where the walk isn't that of a run."""
+    room, here = machine.rooms[0], trial
+    for start, sign, goal in walk:
+        silent = sign == HUSH and start == goal and machine.quiet(start)
+        if len(here) == 1 or start != room or not (silent or (start, sign, goal) in machine.doors):
+            return None
+        room = goal
+        if sign != STILL:
+            if sign not in dict(parts(here)):
+                return None
+            here = dict(parts(here))[sign]
+    return here[0] if len(here) == 1 else None
