@@ -90,7 +90,8 @@ def keeps(M, I):
 
 
 def is_full_face(M, face):
-    return len(face) > 0 and face == tuple([room for room in M.rooms() if room in face])
+    rooms = as_keys(face)
+    return len(face) > 0 and face == tuple([room for room in M.rooms() if room in rooms])
 
 
 def is_keeping(M, I, paper):
@@ -99,10 +100,10 @@ def is_keeping(M, I, paper):
     rooms = as_keys(I.rooms())
     steps = {}
     for room, face in rows:
-        if room not in rooms or not is_full_face(M, face):
-            return False
         if face not in steps:
+            if not is_full_face(M, face):
+                return False
             steps[face] = steps_at(M, face)
-        if not all([row in rows for row in rows_needed(I, room, face, steps[face])]):
+        if room not in rooms or not all([row in rows for row in rows_needed(I, room, face, steps[face])]):
             return False
     return (I.rooms()[0], first_face(M)) in rows

@@ -52,6 +52,18 @@ def steps_at(M, face):
     return steps
 
 
+# What steps_at tells, each face looked at once: trials and charges come to the same faces again and again.
+class KnownSteps:
+    def __init__(self, M):
+        self.machine = M
+        self.known = {}
+
+    def steps_from(self, face):
+        if face not in self.known:
+            self.known[face] = steps_at(self.machine, face)
+        return self.known[face]
+
+
 def signs_at(M, face):
     signs = {}
     for room in face:

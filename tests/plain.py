@@ -1,5 +1,8 @@
 """The document's words taken one by one, over bare lists, slow and without the program: what the tests hold it against."""
 
+import itertools
+import math
+
 HUSH = ("hush",)
 STILL = ("still",)
 
@@ -185,3 +188,89 @@ def run_end(machine, trial, walk):
                 return None
             here = dict(parts(here))[sign]
     return here[0] if len(here) == 1 else None
+
+
+def made_trials(model, face, depth):
+    """All made trials of this depth at the face, in the order of their numbers; only blame at the empty one."""
+    if face == ():
+        return [("blame",)]
+    trials = [("end",)]
+    if depth == 0:
+        return trials
+    says = [("say", w) for w in model.says]
+    for ask in model.asks_at(face):
+        rows = [made_trials(model, model.behind(face, sign), depth - 1) for sign in [("ask", ask)] + says]
+        trials += [("tell", ask, row[0], tuple(zip(model.says, row[1:]))) for row in itertools.product(*rows)]
+    rows = [made_trials(model, model.behind(face, sign), depth - 1) for sign in says + [HUSH]]
+    trials += [("wait", tuple(zip(model.says, row)), row[-1]) for row in itertools.product(*rows)]
+    return trials
+
+
+def trial_key(model, trial):
+    """By this key made trials are sorted by their numbers."""
+    if len(trial) == 1:
+        return (0,)
+    kind = 1 + model.asks.index(trial[1]) if trial[0] == "tell" else 1 + len(model.asks)
+    return (kind,) + tuple(trial_key(model, part) for sign, part in parts(trial))
+
+
+def how_many_made(model, face, depth):
+    if face == () or depth == 0:
+        return 1
+    says = [("say", w) for w in model.says]
+    count = 1
+    for signs in [[("ask", a)] + says for a in model.asks_at(face)] + [says + [HUSH]]:
+        count += math.prod(how_many_made(model, model.behind(face, sign), depth - 1) for sign in signs)
+    return count
+
+
+def charge_behind(model, charge, sign):
+    return frozenset(model.behind(face, sign) for face in charge) - {()}
+
+
+def hushed(model, charge):
+    return charge | charge_behind(model, charge, HUSH)
+
+
+def open_to(model, charge):
+    return [sign for sign in model.signs() if sign[0] != "ask" and all(sign in model.coming(face) for face in charge)]
+
+
+def next_charges(model, charge):
+    asks = [("ask", a) for a in model.asks]
+    onward = [charge_behind(model, charge, sign) for sign in asks]
+    for sign in open_to(model, charge):
+        if sign == HUSH:
+            onward += [charge_behind(model, hushed(model, charge), ask) for ask in asks]
+        else:
+            onward.append(charge_behind(model, charge, sign))
+    return onward
+
+
+def met_charges(model, most=10 ** 9):
+    """The met charges, as sets; where there are more than so many, not all of them."""
+    found = {frozenset([model.first()])}
+    waiting = list(found)
+    while waiting and len(found) <= most:
+        for charge in next_charges(model, waiting.pop()):
+            if charge not in found:
+                found.add(charge)
+                waiting.append(charge)
+    return found
+
+
+def hopeful_charges(model):
+    """The met charges that aren't hopeless: from all of them on, those are left out for which nothing is left to do."""
+    asks = [("ask", a) for a in model.asks]
+    left = met_charges(model)
+    while True:
+        stay = set()
+        for charge in left:
+            silence = HUSH in open_to(model, charge) and all(
+                charge_behind(model, hushed(model, charge), ask) in left for ask in asks)
+            speech = any(charge_behind(model, charge, sign) in left for sign in open_to(model, charge) if sign != HUSH)
+            if (silence or speech) and all(charge_behind(model, charge, ask) in left for ask in asks):
+                stay.add(charge)
+        if stay == left:
+            return left
+        left = stay

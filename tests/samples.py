@@ -109,3 +109,78 @@ def two_rounds(one, other):
     for rooms in (ins, outs):
         doors += [(rooms[number - 1], ("ask", "a"), rooms[number]) for number in range(len(rooms))]
     return Machine(["a"], ["x"], ["start"] + ins + outs, doors)
+
+
+def hopeless_parts():
+    """The parts of a model to which no machine keeps.
+
+    Nothing but silence may come at first, and again behind a. Who was silent twice can't know what was heard of it: if
+    the first silence alone was, then behind b it must say x, if the second alone, y."""
+    return (
+        ["a", "b"],
+        ["x", "y"],
+        ["p", "q", "u", "k", "v", "sayx", "sayy"],
+        [
+            ("p", ("still",), "q"),
+            ("p", ("ask", "a"), "v"),
+            ("q", ("ask", "a"), "u"),
+            ("u", ("still",), "k"),
+            ("u", ("ask", "b"), "sayx"),
+            ("v", ("ask", "b"), "sayy"),
+            ("sayx", ("say", "x"), "sayx"),
+            ("sayy", ("say", "y"), "sayy"),
+        ],
+    )
+
+
+def bent_hopeless_parts(seed):
+    """The same with some doors put in, left out or led elsewhere: some machine keeps to about every other one."""
+    chance = random.Random(seed)
+    asks, says, rooms, doors = hopeless_parts()
+    signs = [("ask", "a"), ("ask", "b"), ("say", "x"), ("say", "y")]
+    for turn in range(chance.randint(1, 3)):
+        number = chance.randrange(len(doors))
+        kind = chance.randrange(4)
+        if kind == 0:
+            doors.pop(number)
+        elif kind == 1 and doors[number][1] != ("still",):
+            doors[number] = doors[number][:2] + (chance.choice(rooms),)
+        elif kind == 2:
+            doors.append((chance.choice(rooms), chance.choice(signs), chance.choice(rooms)))
+        else:
+            start, goal = sorted(chance.sample(range(len(rooms)), 2))
+            doors.append((rooms[start], ("still",), rooms[goal]))
+    return (asks, says, rooms, list(dict.fromkeys(doors)))
+
+
+def chain(count):
+    """A taker of one ask that goes from room to room and stays in the last: each room is a charge by itself."""
+    rooms = names(count)
+    return Machine(["a"], ["x"], rooms, [(s, ("ask", "a"), g) for s, g in zip(rooms, rooms[1:] + rooms[-1:])])
+
+
+def listened(one_more):
+    """A model of one ask whose faces tell which of its first four silences were heard, as far as can be known.
+
+    Behind four asks, silent ahead of each, sixteen faces are left; behind a fifth as many, or one more, where the fifth
+    silence, heard like the four ahead of it, leads to a room of its own."""
+    def named(letter, heard):
+        return letter + "".join("ny"[one] for one in heard)
+
+    rooms, doors = [], []
+    for length in range(4):
+        onward = "n" if length < 3 else "e"
+        for heard in itertools.product((0, 1), repeat=length):
+            loose, silent = named("n", heard), named("k", heard)
+            rooms += [loose, silent]
+            doors += [(loose, ("still",), silent), (loose, ("ask", "a"), named(onward, heard + (0,))),
+                      (silent, ("ask", "a"), named(onward, heard + (1,)))]
+    for heard in itertools.product((0, 1), repeat=4):
+        rooms += [named("e", heard), named("f", heard)]
+        doors += [(named("e", heard), ("ask", "a"), named("f", heard)), (named("f", heard), ("ask", "a"), "z")]
+        if sum(heard) == 3:
+            doors.append((named("e", heard), ("ask", "a"), "fyyyy"))
+    rooms += ["quiet", "own", "z"]
+    doors += [("eyyyy", ("still",), "quiet"), ("quiet", ("ask", "a"), "own" if one_more else "fyyyy"),
+              ("own", ("ask", "a"), "z"), ("z", ("ask", "a"), "z")]
+    return Machine(["a"], ["x"], rooms, doors)

@@ -2,6 +2,7 @@
 
 import ast
 import builtins
+import functools
 import pathlib
 import re
 import unittest
@@ -38,8 +39,12 @@ def trees():
     return [(path.name, ast.parse(path.read_text("ascii"))) for path in files()]
 
 
+@functools.cache
 def nodes(kinds):
-    return [(name, node) for name, tree in trees() for node in ast.walk(tree) if isinstance(node, kinds)]
+    """(file, node) of each node of these kinds; a node is the same one whatever kinds are asked for."""
+    if kinds is not ast.AST:
+        return [(name, node) for name, node in nodes(ast.AST) if isinstance(node, kinds)]
+    return [(name, node) for name, tree in trees() for node in ast.walk(tree)]
 
 
 def bound_names():
@@ -127,6 +132,39 @@ class Rows(unittest.TestCase):
                 if isinstance(sort, (ast.Is, ast.IsNot)):
                     self.assertIsInstance(right, ast.Constant, (name, node.lineno))
                     self.assertIn(right.value, (None, True, False), (name, node.lineno))
+
+
+class Walked(unittest.TestCase):
+    def test_walked_on_the_spot(self):
+        around = {}
+        for name, node in nodes(ast.AST):
+            for field in ast.iter_child_nodes(node):
+                around[field] = node
+        for name, node in nodes(ast.Call):
+            own = isinstance(node.func, ast.Name) and node.func.id in ("zip", "enumerate", "reversed", "range")
+            method = isinstance(node.func, ast.Attribute) and node.func.attr in ("items", "keys", "values")
+            if own or method:
+                self.assertTrue(is_walked(node, around[node]), (name, node.lineno))
+
+    def test_no_exponent_that_is_not_written(self):
+        for name, node in nodes(ast.BinOp):
+            if isinstance(node.op, ast.Pow):
+                self.assertIsInstance(node.right, ast.Constant, (name, node.lineno))
+            self.assertNotIsInstance(node.op, (ast.LShift, ast.RShift), (name, node.lineno))
+
+    def test_no_set_is_kept(self):
+        for name, node in nodes(ast.Name):
+            self.assertNotIn(node.id, ("set", "frozenset"), (name, node.lineno))
+
+
+def is_walked(node, parent):
+    if isinstance(parent, (ast.For, ast.comprehension)):
+        return parent.iter == node
+    if not isinstance(parent, ast.Call) or not isinstance(parent.func, ast.Name) or parent.args[:1] != [node]:
+        return False
+    if parent.func.id in ("min", "max"):
+        return len(parent.args) == 1
+    return parent.func.id in ("list", "tuple", "dict", "sorted", "sum", "any", "all", "enumerate", "zip")
 
 
 class Names(unittest.TestCase):
