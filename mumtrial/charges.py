@@ -79,31 +79,43 @@ class ChargeMap:
         else:
             self.asked_hushed.append(None)
 
-    def must_be_hopeless(self, number, hopeless):
-        if any([behind in hopeless for behind in self.asked[number].values()]):
-            return True
+    # Why this one must be hopeless, as a paper tells it, where it follows from those that are found already; else None.
+    def why_hopeless(self, number, hopeless):
+        for sign, behind in self.asked[number].items():
+            if behind in hopeless:
+                return sign
         if not all([behind in hopeless for behind in self.said[number].values()]):
-            return False
-        silent = self.asked_hushed[number]
-        return silent is None or any([behind in hopeless for behind in silent.values()])
+            return None
+        if self.asked_hushed[number] is None:
+            return ("mute", None)
+        for sign, behind in self.asked_hushed[number].items():
+            if behind in hopeless:
+                return ("mute", sign[1])
+        return None
 
-    # Just those that must be: from none on, as long as one more must be.
+    # Just those that must be, each with its why: from none on, as long as one more must be. So each stands behind those
+    # from which it follows.
     def hopeless_ones(self):
         hopeless = {}
         found = -1
         while found < len(hopeless):
             found = len(hopeless)
             for number in range(len(self.charges)):
-                if number not in hopeless and self.must_be_hopeless(number, hopeless):
-                    hopeless[number] = True
+                why = None if number in hopeless else self.why_hopeless(number, hopeless)
+                if why is not None:
+                    hopeless[number] = why
         return hopeless
 
 
+def met_map(M):
+    return ChargeMap(M, first_charge(M), True)
+
+
 def met(M):
-    return [list(charge) for charge in ChargeMap(M, first_charge(M), True).charges]
+    return [list(charge) for charge in met_map(M).charges]
 
 
 # The charge is looked at from itself on, behind the look that refuses wide models: a met one meets met ones alone.
 def is_hopeless(M, charge):
-    met(M)
+    met_map(M)
     return 0 in ChargeMap(M, charge, False).hopeless_ones()

@@ -15,12 +15,16 @@ def takes(I, room, ask):
     return any([len(I.goals(here, ("ask", ask))) > 0 for here in [room] + I.led_from(room)])
 
 
-def need_taker(M, I):
-    need_match(M, I)
+def need_all_asks_taken(I):
     for room in I.rooms():
         for ask in I.asks():
             if not takes(I, room, ask):
                 raise NoTaker(room, ask)
+
+
+def need_taker(M, I):
+    need_match(M, I)
+    need_all_asks_taken(I)
 
 
 def story_to(came, place):

@@ -14,6 +14,12 @@ def is_name(text):
     return text != "" and len(text) <= LONGEST_NAME and all([letter in LETTERS for letter in text])
 
 
+# Two letters are enough: no machine has more than 150 rooms.
+def name_of_number(number):
+    tens, ones = divmod(number, len(LETTERS))
+    return LETTERS[tens] + LETTERS[ones]
+
+
 def as_keys(things):
     keys = {}
     for thing in things:

@@ -1,6 +1,6 @@
 """The right machines of a model, all at once: what some machine that keeps to it may have heard and said."""
 
-from mumtrial.charges import ChargeMap, first_charge
+from mumtrial.charges import ChargeMap, first_charge, met_map
 from mumtrial.stories import HUSH, signs_in_order
 
 
@@ -39,3 +39,17 @@ class Rights:
 
     def may(self, spot):
         return [sign for sign in self.answers if self.behind(spot, sign) is not None]
+
+    def has_story(self, story):
+        spot = self.first()
+        for sign in story:
+            if spot is None:
+                return False
+            spot = self.behind(spot, sign)
+        return spot is not None
+
+
+# Rights goes on with wide models, too; whatever else stands on it refuses them.
+def narrow_rights(M):
+    met_map(M)
+    return Rights(M)

@@ -274,3 +274,36 @@ def hopeful_charges(model):
         if stay == left:
             return left
         left = stay
+
+
+def is_charge(model, charge):
+    for face in charge:
+        places = [model.rooms.index(room) if room in model.rooms else -1 for room in face]
+        if places == [] or places[0] < 0 or min(places) < 0 or places != sorted(set(places)):
+            return False
+    return charge == sorted(set(charge))
+
+
+def is_hopeless_row(model, charge, why, ahead):
+    """Whether a row of a hopeless paper is so, behind these charges (sets)."""
+    charge = frozenset(charge)
+    kind, ask = why
+    if kind == "ask":
+        return ask in model.asks and charge_behind(model, charge, why) in ahead
+    if kind != "mute":
+        return False
+    for sign in open_to(model, charge):
+        if sign != HUSH and charge_behind(model, charge, sign) not in ahead:
+            return False
+    if ask is None:
+        return HUSH not in open_to(model, charge)
+    return ask in model.asks and charge_behind(model, hushed(model, charge), ("ask", ask)) in ahead
+
+
+def is_hopeless_paper(model, rows):
+    ahead = []
+    for charge, why in rows:
+        if not is_charge(model, charge) or not is_hopeless_row(model, charge, why, ahead):
+            return False
+        ahead.append(frozenset(charge))
+    return frozenset([model.first()]) in ahead

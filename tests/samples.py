@@ -5,6 +5,7 @@ import random
 
 from mumtrial.errors import NoMachine
 from mumtrial.machines import Machine
+from tests.plain import Plain
 
 LETTERS = "abcdefghijklmnopqrstuvwxyz"
 
@@ -96,6 +97,36 @@ def model_parts(seed, asks, says, most_rooms=4):
     return (asks, says, rooms, doors)
 
 
+def with_all_asks(parts, chance):
+    """The same with doors put in where an ask isn't taken."""
+    asks, says, rooms, doors = parts
+    doors = list(doors)
+    for room in rooms:
+        for ask in asks:
+            own = Plain(asks, says, rooms, doors)
+            if ask not in own.asks_at(own.face([room])):
+                doors.append((room, ("ask", ask), chance.choice(rooms)))
+    return (asks, says, rooms, doors)
+
+
+def near_parts(seed, parts):
+    """The parts of a taker near this model: at most two doors put in, left out or led elsewhere, all asks taken."""
+    chance = random.Random(seed)
+    asks, says, rooms, doors = parts
+    doors = list(doors)
+    for turn in range(chance.randint(0, 2)):
+        kind = chance.randrange(3)
+        spoken = [number for number, door in enumerate(doors) if door[1] != ("still",)]
+        if kind == 0:
+            doors.append((chance.choice(rooms), ("say", chance.choice(says)), chance.choice(rooms)))
+        elif kind == 1 and doors:
+            doors.pop(chance.randrange(len(doors)))
+        elif spoken:
+            number = chance.choice(spoken)
+            doors[number] = doors[number][:2] + (chance.choice(rooms),)
+    return with_all_asks((asks, says, rooms, list(dict.fromkeys(doors))), chance)
+
+
 def words_for(seed):
     """A list of one or two asks and one of one or two says."""
     return (["a", "b"][:1 + seed % 2], ["x", "y"][:1 + seed // 2 % 2])
@@ -131,6 +162,24 @@ def hopeless_parts():
             ("sayy", ("say", "y"), "sayy"),
         ],
     )
+
+
+def hopeless_paper():
+    """A right paper of that model, with as few rows as can be."""
+    twice = [("u", "k"), ("u", "k", "v")]
+    last = [("sayx",), ("sayx", "sayy"), ("sayy",)]
+    return [(last, ("mute", None)), (twice, ("mute", "b")), ([("p", "q")], ("mute", "a"))]
+
+
+def lists_of(machine):
+    return (machine.asks(), machine.says(), machine.rooms(), machine.doors())
+
+
+def two_silences():
+    """A model that is silent at first; behind a it says x if its silence was heard, else x or y."""
+    return Machine(["a"], ["x", "y"], ["p", "q", "v", "w"], [
+        ("p", ("still",), "q"), ("p", ("ask", "a"), "w"), ("q", ("ask", "a"), "v"), ("v", ("say", "x"), "v"),
+        ("w", ("say", "y"), "w"), ("v", ("ask", "a"), "v"), ("w", ("ask", "a"), "w")])
 
 
 def bent_hopeless_parts(seed):
