@@ -101,6 +101,16 @@ class Rows(unittest.TestCase):
             for alias in node.names:
                 self.assertIn(alias.name, made, name)
 
+    def test_no_two_files_draw_from_one_another(self):
+        drawn = {path.stem: set() for path in files()}
+        for name, node in nodes(ast.ImportFrom):
+            drawn[name.split(".")[0]].add(node.module.split(".")[1])
+        while drawn:
+            free = [name for name in drawn if not drawn[name] & set(drawn)]
+            self.assertNotEqual(free, [], drawn)
+            for name in free:
+                drawn.pop(name)
+
     def test_no_row_outside_the_part(self):
         for name, node in nodes(NO_NODES):
             self.fail((name, getattr(node, "lineno", None), node))
@@ -178,6 +188,14 @@ class Names(unittest.TestCase):
             bound = node.arg if isinstance(node, ast.arg) else node.id
             if isinstance(node, ast.arg) or isinstance(node.ctx, ast.Store):
                 self.assertFalse(hasattr(builtins, bound), (name, node.lineno, bound))
+
+    def test_no_parameter_or_local_is_called_like_a_class_or_an_import(self):
+        for path in files():
+            taken = [alias.name for name, node in nodes(ast.ImportFrom) if name == path.name for alias in node.names]
+            taken += [node.name for name, node in nodes(ast.ClassDef) if name == path.name]
+            for name, node in nodes((ast.arg, ast.Name)):
+                if name == path.name and (isinstance(node, ast.arg) or isinstance(node.ctx, ast.Store)):
+                    self.assertNotIn(node.arg if isinstance(node, ast.arg) else node.id, taken, (name, node.lineno))
 
     def test_pythons_own_names_are_those_of_the_part(self):
         for name, node in nodes(ast.Name):
